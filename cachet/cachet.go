@@ -1,0 +1,86 @@
+// Package cachet: messages that are sealed, and handles that never use a nonce twice: see DOC.md.
+package cachet
+
+import (
+	"cachet/aes"
+	"cachet/api"
+	"cachet/blocks"
+)
+
+// Encrypt tells a block under a key (P3).
+func Encrypt(key string, block string) (string, api.Errno) {
+	cipher, ok := aes.New(key)
+	if !ok {
+		return "", api.ErrKey
+	}
+	b, ok := blocks.Of(block)
+	if !ok {
+		return "", api.ErrSize
+	}
+	return cipher.Encrypt(b).Text(), api.OK
+}
+
+// Hash tells the hash of blocks (P4).
+func Hash(h string, s string) (string, api.Errno) {
+	by, ok := blocks.Of(h)
+	if !ok {
+		return "", api.ErrKey
+	}
+	sum, ok := blocks.Hash(by, s)
+	if !ok {
+		return "", api.ErrSize
+	}
+	return sum.Text(), api.OK
+}
+
+// Seal seals a text (P5).
+func Seal(key string, nonce string, more string, plain string) (string, api.Errno) {
+	return "", api.OK
+}
+
+// Open opens what was sealed (P6).
+func Open(key string, nonce string, more string, sealed string) (string, api.Errno) {
+	return "", api.OK
+}
+
+// Encode tells a record as bytes (P7).
+func Encode(r api.Record) (string, api.Errno) { return "", api.OK }
+
+// Parse tells the record that some bytes are, or where they are wrong (P8).
+func Parse(s string) (api.Record, int, api.Errno) { return api.Record{}, 0, api.OK }
+
+// Store is cells of text.
+type Store struct{}
+
+// NewStore makes a store (P9).
+func NewStore() *Store { return nil }
+
+// Cell tells a cell (P9).
+func (s *Store) Cell(i int) (string, api.Errno) { return "", api.OK }
+
+// Write writes a cell (P9).
+func (s *Store) Write(i int, text string) api.Errno { return api.OK }
+
+// Interrupt lets a later write be interrupted (P9).
+func (s *Store) Interrupt(k int, done bool) api.Errno { return api.OK }
+
+// Table is handles over a store.
+type Table struct{}
+
+// Start makes a table of what a store holds (P11).
+func Start(s *Store) (*Table, api.Errno) { return nil, api.OK }
+
+// Create makes a handle (P12).
+func (t *Table) Create(id int, key string, fixed string, c api.Config) api.Errno { return api.OK }
+
+// Seal seals a text with a handle's next nonce (P13).
+func (t *Table) Seal(id int, more string, plain string) (string, api.Errno) { return "", api.OK }
+
+// Open opens a record (P14).
+func (t *Table) Open(record string, more string) (string, api.Errno) { return "", api.OK }
+
+// Retire ends a handle (P15).
+func (t *Table) Retire(id int) api.Errno { return api.OK }
+
+// Status tells how a handle is (P16).
+func (t *Table) Status(id int) (api.Status, api.Errno) { return api.Status{}, api.OK }
