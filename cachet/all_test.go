@@ -24,8 +24,8 @@ func oddTexts() []string {
 // TestP1Texts: a panic ends the test; with an error there is no text beside it.
 func TestP1Texts(t *testing.T) {
 	for _, a := range oddTexts() {
-		if _, place, e := cachet.Parse(a); e == api.OK && place != 0 {
-			t.Errorf("P1: Parse of %d bytes tells a place, %d, and no fault", len(a), place)
+		if r, place, e := cachet.Parse(a); r != (api.Record{}) || place < 0 || place > len(a) || e != api.ErrForm {
+			t.Errorf("P1: Parse of %d bytes = %#v, %d, %d", len(a), r, place, e)
 		}
 		for _, b := range oddTexts() {
 			answers := map[string]func() (string, api.Errno){
@@ -33,7 +33,7 @@ func TestP1Texts(t *testing.T) {
 				"Hash":    func() (string, api.Errno) { return cachet.Hash(a, b) },
 				"Seal":    func() (string, api.Errno) { return cachet.Seal(a, b, a, b) },
 				"Open":    func() (string, api.Errno) { return cachet.Open(a, b, b, a) },
-				"Encode":  func() (string, api.Errno) { return cachet.Encode(api.Record{Nonce: a, Body: b, Tag: a}) },
+				"Encode":  func() (string, api.Errno) { return cachet.Encode(api.Record{Alg: 1, Nonce: a, Body: b, Tag: a}) },
 			}
 			for name, call := range answers {
 				if got, e := call(); e != api.OK && got != "" {
@@ -95,15 +95,24 @@ func TestP1NothingKept(t *testing.T) {
 	key, block := strings.Repeat("k", 24), strings.Repeat("b", 16)
 	encrypted, _ := cachet.Encrypt(key, block)
 	hashed, _ := cachet.Hash(block, key+key)
+	sealed, _ := cachet.Seal(key, "nonce", "more", "plain")
 	for _, a := range oddTexts() {
 		cachet.Encrypt(a, block)
 		cachet.Encrypt(key, a)
 		cachet.Hash(a, key)
 		cachet.Hash(block, a)
+		cachet.Seal(key, a, a, a)
+		cachet.Open(key, a, a, a)
+		cachet.Encode(api.Record{Alg: 1, Nonce: a, Body: a, Tag: a})
+		cachet.Parse(a)
 		got, e := cachet.Encrypt(key, block)
 		wantText(t, "P1: Encrypt once more", got, e, encrypted)
 		got, e = cachet.Hash(block, key+key)
 		wantText(t, "P1: Hash once more", got, e, hashed)
+		got, e = cachet.Seal(key, "nonce", "more", "plain")
+		wantText(t, "P1: Seal once more", got, e, sealed)
+		got, e = cachet.Open(key, "nonce", "more", sealed)
+		wantText(t, "P1: Open once more", got, e, "plain")
 	}
 }
 

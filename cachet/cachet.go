@@ -5,6 +5,8 @@ import (
 	"cachet/aes"
 	"cachet/api"
 	"cachet/blocks"
+	"cachet/gcm"
+	"cachet/records"
 )
 
 // Encrypt tells a block under a key (P3).
@@ -35,19 +37,67 @@ func Hash(h string, s string) (string, api.Errno) {
 
 // Seal seals a text (P5).
 func Seal(key string, nonce string, more string, plain string) (string, api.Errno) {
-	return "", api.OK
+	mode, e := ready(key, nonce)
+	if e != api.OK {
+		return "", e
+	}
+	if len(more) > api.MaxText || len(plain) > api.MaxText {
+		return "", api.ErrLong
+	}
+	body, tag := mode.Seal(nonce, more, plain)
+	return body + tag.Text(), api.OK
 }
 
 // Open opens what was sealed (P6).
 func Open(key string, nonce string, more string, sealed string) (string, api.Errno) {
-	return "", api.OK
+	mode, e := ready(key, nonce)
+	if e != api.OK {
+		return "", e
+	}
+	if len(more) > api.MaxText || len(sealed) > api.MaxText+api.Block {
+		return "", api.ErrLong
+	}
+	end := len(sealed) - api.Block
+	if end < 0 {
+		return "", api.ErrSize
+	}
+	tag, _ := blocks.Of(sealed[end:])
+	plain, ok := mode.Open(nonce, more, sealed[:end], tag)
+	if !ok {
+		return "", api.ErrTag
+	}
+	return plain, api.OK
+}
+
+// ready makes a key ready for a nonce: the errors that Seal and Open name first are the same.
+func ready(key string, nonce string) (*gcm.Mode, api.Errno) {
+	mode, ok := gcm.New(key)
+	if !ok {
+		return nil, api.ErrKey
+	}
+	if len(nonce) < 1 || len(nonce) > api.MaxNonce {
+		return nil, api.ErrNonce
+	}
+	return mode, api.OK
 }
 
 // Encode tells a record as bytes (P7).
-func Encode(r api.Record) (string, api.Errno) { return "", api.OK }
+func Encode(r api.Record) (string, api.Errno) {
+	s, ok := records.Encode(r)
+	if !ok {
+		return "", api.ErrArg
+	}
+	return s, api.OK
+}
 
 // Parse tells the record that some bytes are, or where they are wrong (P8).
-func Parse(s string) (api.Record, int, api.Errno) { return api.Record{}, 0, api.OK }
+func Parse(s string) (api.Record, int, api.Errno) {
+	r, place, ok := records.Parse(s)
+	if !ok {
+		return api.Record{}, place, api.ErrForm
+	}
+	return r, 0, api.OK
+}
 
 // Store is cells of text.
 type Store struct{}
