@@ -49,44 +49,48 @@ func TestP1Numbers(t *testing.T) {
 		if got, e := cachet.Encode(api.Record{Alg: n, Id: n}); e != api.OK && got != "" {
 			t.Errorf("P1: Encode of numbers %d = %x beside %d", n, got, e)
 		}
-		s := cachet.NewStore()
-		if got, e := s.Cell(n); e != api.OK && got != "" {
+		s := newStore(t)
+		if got, e := s.Cell(n); got != "" || (e == api.OK) != (n >= 0 && n < 8) {
 			t.Errorf("P1: Cell(%d) = %x beside %d", n, got, e)
 		}
 		s.Write(n, "text")
 		s.Interrupt(n, true)
-		table, _ := cachet.Start(cachet.NewStore())
-		table.Create(n, strings.Repeat("k", 16), "fixd", api.Config{Seals: n, Ahead: n, Most: n})
-		if got, e := table.Seal(n, "", ""); e != api.OK && got != "" {
-			t.Errorf("P1: a table's Seal(%d) = %x beside %d", n, got, e)
+		for _, seals := range oddNumbers() {
+			for _, ahead := range oddNumbers() {
+				for _, most := range oddNumbers() {
+					table := started(t, newStore(t))
+					made := table.Create(n, key16, "fixd", api.Config{Seals: seals, Ahead: ahead, Most: most})
+					if got, e := table.Seal(n, "", ""); made != e && (got != "" || e != api.ErrNone) {
+						t.Errorf("P1: a table's Seal(%d) = %x beside %d", n, got, e)
+					}
+					if got, e := table.Status(n); made != e && (got != (api.Status{}) || e != api.ErrNone) {
+						t.Errorf("P1: Status(%d) = %v beside %d", n, got, e)
+					}
+					table.Retire(n)
+				}
+			}
 		}
-		if got, e := table.Status(n); e != api.OK && got != (api.Status{}) {
-			t.Errorf("P1: Status(%d) = %v beside %d", n, got, e)
-		}
-		table.Retire(n)
 	}
 }
 
 func TestP1TableTexts(t *testing.T) {
 	for _, a := range oddTexts() {
-		s := cachet.NewStore()
+		s := newStore(t)
 		s.Write(0, a)
-		cachet.Start(s)
-		table, _ := cachet.Start(cachet.NewStore())
-		table.Create(1, a, a, api.Config{Seals: 1, Ahead: 1, Most: 1})
-		table.Create(1, strings.Repeat("k", 16), "fixd", api.Config{Seals: 1, Ahead: 1, Most: 200})
-		if got, e := table.Seal(1, a, a); e != api.OK && got != "" {
-			t.Errorf("P1: a table's Seal of %d bytes = %x beside %d", len(a), got, e)
+		if table, e := cachet.Start(s); (table == nil) != (e != api.OK) {
+			t.Errorf("P1: Start of a cell of %d bytes = %v beside %d", len(a), table, e)
 		}
-		if got, e := table.Open(a, a); e != api.OK && got != "" {
-			t.Errorf("P1: a table's Open of %d bytes = %x beside %d", len(a), got, e)
+		for _, b := range oddTexts() {
+			table := started(t, newStore(t))
+			table.Create(1, a, b, api.Config{Seals: 1, Ahead: 1, Most: 1})
+			wantErrno(t, "P12: Create", table.Create(2, key16, "fixd", api.Config{Seals: 1, Ahead: 1, Most: 200}), api.OK)
+			if got, e := table.Seal(2, a, b); (got == "") != (e != api.OK) {
+				t.Errorf("P1: a table's Seal of %d and %d bytes = %x beside %d", len(a), len(b), got, e)
+			}
+			if got, e := table.Open(a, b); got != "" || e != api.ErrForm && e != api.ErrLong {
+				t.Errorf("P1: a table's Open of %d and %d bytes = %x beside %d", len(a), len(b), got, e)
+			}
 		}
-	}
-}
-
-func TestP1NilStore(t *testing.T) {
-	if table, e := cachet.Start(nil); e != api.OK && table != nil {
-		t.Errorf("P1: Start(nil) = a table beside %d", e)
 	}
 }
 
@@ -117,29 +121,39 @@ func TestP1NothingKept(t *testing.T) {
 }
 
 func TestP2Stores(t *testing.T) {
-	one, other := cachet.NewStore(), cachet.NewStore()
+	one, other := newStore(t), newStore(t)
 	for i := range api.Cells {
-		one.Write(i, "text")
-		if got, e := other.Cell(i); got != "" || e != api.OK {
-			t.Errorf("P2: Cell(%d) of another store = %q, %d", i, got, e)
-		}
+		wantErrno(t, "P9: Write", one.Write(i, "text"), api.OK)
+		wantCells(t, "P2: another store", other, [api.Cells]string{})
 	}
 	one.Interrupt(1, false)
-	if e := other.Write(0, "text"); e != api.OK {
-		t.Errorf("P2: a write in another store than the interrupted one = %d", e)
-	}
+	wantErrno(t, "P2: a write in another store than the interrupted one", other.Write(0, "text"), api.OK)
+	other.Interrupt(0, false)
+	wantErrno(t, "P2: a write in the interrupted store", one.Write(0, ""), api.ErrDown)
+	wantCell(t, "P2: the interrupted store", one, 0, "text")
 }
 
+// TestP2Tables: tables of two stores with handles of one name; what one of them does, or suffers, is not the other's.
 func TestP2Tables(t *testing.T) {
-	one, other := cachet.NewStore(), cachet.NewStore()
-	table, _ := cachet.Start(one)
-	cachet.Start(other)
-	key, c := strings.Repeat("k", 16), api.Config{Seals: 1, Ahead: 1, Most: 1}
-	if e := table.Create(1, key, "fixd", c); e != api.OK {
-		t.Errorf("P2: Create after another store was started = %d", e)
+	one, table := newTable(t)
+	other := newStore(t)
+	apart := started(t, other)
+	wantNoStatus(t, "P2: another store's table", apart, 258)
+	c := api.Config{Seals: 9, Ahead: 3, Most: 10}
+	wantErrno(t, "P2: Create of a name that another store's table has", apart.Create(258, key32, "four", c), api.OK)
+	for counter := range 2 {
+		got, e := table.Seal(258, "", "plain")
+		wantText(t, "P2: Seal", got, e, recordOf(t, 258, key16, issued("fixd", counter), "", "plain"))
+		got, e = apart.Open(got, "")
+		wantError(t, "P2: Open of another store's record", got, e, api.ErrTag)
+		got, e = apart.Seal(258, "", "plain")
+		wantText(t, "P2: Seal", got, e, recordOf(t, 258, key32, issued("four", counter), "", "plain"))
 	}
-	apart, _ := cachet.Start(other)
-	if e := apart.Create(1, key, "fixd", c); e != api.OK {
-		t.Errorf("P2: Create of a name that another store's table has = %d", e)
-	}
+	wantErrno(t, "P2: Retire", table.Retire(258), api.OK)
+	wantStatus(t, "P2: another store's handle", apart, 258, api.Status{Alg: 3, Counter: 2, Reserved: 3})
+	one.Interrupt(1, true)
+	wantErrno(t, "P2: Create, interrupted", table.Create(1, key16, "fixd", limit), api.ErrDown)
+	wantErrno(t, "P2: Create beside that", apart.Create(1, key16, "fixd", limit), api.OK)
+	wantCells(t, "P2: one store", one, [api.Cells]string{sampleCell(2, true), cellText(1, key16, "fixd", limit, 0, false)})
+	wantCells(t, "P2: the other", other, [api.Cells]string{cellText(258, key32, "four", c, 3, false), cellText(1, key16, "fixd", limit, 0, false)})
 }

@@ -98,39 +98,3 @@ func Parse(s string) (api.Record, int, api.Errno) {
 	}
 	return r, 0, api.OK
 }
-
-// Store is cells of text.
-type Store struct{}
-
-// NewStore makes a store (P9).
-func NewStore() *Store { return nil }
-
-// Cell tells a cell (P9).
-func (s *Store) Cell(i int) (string, api.Errno) { return "", api.OK }
-
-// Write writes a cell (P9).
-func (s *Store) Write(i int, text string) api.Errno { return api.OK }
-
-// Interrupt lets a later write be interrupted (P9).
-func (s *Store) Interrupt(k int, done bool) api.Errno { return api.OK }
-
-// Table is handles over a store.
-type Table struct{}
-
-// Start makes a table of what a store holds (P11).
-func Start(s *Store) (*Table, api.Errno) { return nil, api.OK }
-
-// Create makes a handle (P12).
-func (t *Table) Create(id int, key string, fixed string, c api.Config) api.Errno { return api.OK }
-
-// Seal seals a text with a handle's next nonce (P13).
-func (t *Table) Seal(id int, more string, plain string) (string, api.Errno) { return "", api.OK }
-
-// Open opens a record (P14).
-func (t *Table) Open(record string, more string) (string, api.Errno) { return "", api.OK }
-
-// Retire ends a handle (P15).
-func (t *Table) Retire(id int) api.Errno { return api.OK }
-
-// Status tells how a handle is (P16).
-func (t *Table) Status(id int) (api.Status, api.Errno) { return api.Status{}, api.OK }

@@ -21,6 +21,8 @@ const (
 // parts are pieces of one run; none has room behind it, so that nothing appended to one runs into the next.
 type parts struct {
 	mark, alg, id, nonce, size, body, tag []byte
+
+	head []byte // all ahead of the body
 }
 
 // cut tells the parts of a run that is long enough for a head and a tag.
@@ -34,6 +36,7 @@ func cut(run []byte) parts {
 		size:  run[sizeAt:api.HeadLen:api.HeadLen],
 		body:  run[api.HeadLen:end:end],
 		tag:   run[end:len(run):len(run)],
+		head:  run[:api.HeadLen:api.HeadLen],
 	}
 }
 
@@ -47,6 +50,17 @@ func Encode(r api.Record) (string, bool) {
 	if !right(r) {
 		return "", false
 	}
+	return string(runOf(r)), true
+}
+
+// Bound tells a record's head followed by more: what is bound to the body unsealed. Of the body only the length matters.
+func Bound(r api.Record, more string) string {
+	head := cut(runOf(r)).head
+	return string(append(head, more...))
+}
+
+// runOf puts a record together.
+func runOf(r api.Record) []byte {
 	run := make([]byte, length(len(r.Body)))
 	p := cut(run)
 	copy(p.mark, mark)
@@ -56,7 +70,7 @@ func Encode(r api.Record) (string, bool) {
 	numbers.Put(p.size, uint64(len(r.Body)))
 	copy(p.body, r.Body)
 	copy(p.tag, r.Tag)
-	return string(run), true
+	return run
 }
 
 func right(r api.Record) bool {
